@@ -1,0 +1,60 @@
+package layer
+
+import (
+	"gauze/api"
+	"gauze/paths"
+)
+
+// byPath is a list's items by path; false: they are too many, one of them does not fit, two have one path, or one has no directory to stand in.
+func byPath(list []api.Item, fits func(api.Item) bool) (*paths.Map[api.Item], bool) {
+	if len(list) > api.MaxItems {
+		return nil, false
+	}
+	items := &paths.Map[api.Item]{}
+	for _, item := range list {
+		if !fits(item) {
+			return nil, false
+		}
+		if _, there := items.Get(item.Path); there {
+			return nil, false
+		}
+		items.Put(item.Path, item)
+	}
+	// A parent may come behind its children in the list, so all must stand first.
+	for item := range items.All() {
+		if !hasParent(items, item.Path) {
+			return nil, false
+		}
+	}
+	return items, true
+}
+
+func hasParent(items *paths.Map[api.Item], path string) bool {
+	parent := paths.Parent(path)
+	if parent == paths.Root {
+		return true
+	}
+	item, there := items.Get(parent)
+	return there && item.Kind == api.Dir
+}
+
+// fitsTree tells whether an item may stand in a tree.
+func fitsTree(item api.Item) bool {
+	return fitsLayer(item) && item.Kind != api.White && !item.Opaque
+}
+
+// fitsLayer tells whether an item may stand in a layer.
+func fitsLayer(item api.Item) bool {
+	if !paths.Valid(item.Path) || item.Mode < 0 || item.Mode > api.MaxMode {
+		return false
+	}
+	switch item.Kind {
+	case api.File:
+		return len(item.Data) <= api.MaxData && !item.Opaque
+	case api.Dir:
+		return item.Data == ""
+	case api.White:
+		return item.Mode == 0 && item.Data == "" && !item.Opaque
+	}
+	return false
+}
