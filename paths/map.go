@@ -39,6 +39,13 @@ func (m *Map[T]) Put(path string, thing T) {
 	m.entries = slices.Insert(m.entries, at, entry[T]{path: path, thing: thing})
 }
 
+// Delete lets nothing be at a path.
+func (m *Map[T]) Delete(path string) {
+	if at, there := m.find(path); there {
+		m.entries = slices.Delete(m.entries, at, at+1)
+	}
+}
+
 // All goes through the things in the order of their paths.
 func (m *Map[T]) All() iter.Seq[T] {
 	return func(yield func(T) bool) {

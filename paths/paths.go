@@ -30,6 +30,11 @@ func Parent(path string) string {
 	return path[:max(0, strings.LastIndexByte(path, '/'))]
 }
 
+// IsBelow tells whether a path is below another one.
+func IsBelow(path, top string) bool {
+	return strings.HasPrefix(path, top+"/")
+}
+
 func validStep(step string) bool {
 	if len(step) < 1 || len(step) > api.MaxStep || step == "." || step == ".." {
 		return false

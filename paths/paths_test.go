@@ -48,6 +48,22 @@ func TestParent(t *testing.T) {
 	}
 }
 
+func TestIsBelow(t *testing.T) {
+	for _, pair := range [][2]string{{"a/b", "a"}, {"a/b/c/d", "a"}, {"a/b/c/d", "a/b"}, {"a-b/c", "a-b"}} {
+		if !IsBelow(pair[0], pair[1]) {
+			t.Errorf("%q is below %q", pair[0], pair[1])
+		}
+		if IsBelow(pair[1], pair[0]) {
+			t.Errorf("%q is not below %q", pair[1], pair[0])
+		}
+	}
+	for _, pair := range [][2]string{{"a", "a"}, {"ab", "a"}, {"a-b", "a"}, {"ab/c", "a"}, {"b/a", "a"}, {"b/a/c", "a"}} {
+		if IsBelow(pair[0], pair[1]) {
+			t.Errorf("%q is not below %q", pair[0], pair[1])
+		}
+	}
+}
+
 func TestMapInOrder(t *testing.T) {
 	want := []string{"-", ".a", "0", "_", "a", "a-b", "a.b", "a/b", "a/b/c", "a0", "aa", "b"}
 	var m Map[string]
@@ -76,6 +92,27 @@ func TestMapPutAndGet(t *testing.T) {
 	}
 	if m.Len() != 2 {
 		t.Errorf("Len = %d", m.Len())
+	}
+}
+
+func TestMapDelete(t *testing.T) {
+	var m Map[int]
+	m.Delete("a")
+	for i, path := range []string{"d", "b", "a", "c"} {
+		m.Put(path, i)
+	}
+	m.Delete("b")
+	m.Delete("b")
+	m.Delete("none")
+	if _, there := m.Get("b"); there || m.Len() != 3 {
+		t.Errorf("b is there, or not all else: %d", m.Len())
+	}
+	if got := slices.Collect(m.All()); !slices.Equal(got, []int{2, 3, 0}) {
+		t.Errorf("All = %v", got)
+	}
+	m.Put("b", 7)
+	if got := slices.Collect(m.All()); !slices.Equal(got, []int{2, 7, 3, 0}) {
+		t.Errorf("All = %v", got)
 	}
 }
 
