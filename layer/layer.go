@@ -5,19 +5,20 @@ import (
 	"slices"
 
 	"gauze/api"
+	"gauze/sight"
 )
 
 // Merge is a tree, seen through a layer (P3).
 func Merge(lower []api.Item, upper []api.Item) ([]api.Item, api.Errno) {
-	tree, ok := byPath(lower, fitsTree)
+	tree, ok := sight.Tree(lower)
 	if !ok {
 		return nil, api.ErrTree
 	}
-	over, ok := byPath(upper, fitsLayer)
+	over, ok := sight.Layer(upper)
 	if !ok {
 		return nil, api.ErrLayer
 	}
-	seen := view{tree: tree, over: over}.seen()
+	seen := sight.View{Tree: tree, Over: over}.Seen()
 	if seen.Len() > api.MaxItems {
 		return nil, api.ErrFull
 	}

@@ -46,6 +46,9 @@ func (m *Map[T]) Delete(path string) {
 	}
 }
 
+// Clone is another Map with the same things.
+func (m *Map[T]) Clone() *Map[T] { return &Map[T]{entries: slices.Clone(m.entries)} }
+
 // All goes through the things in the order of their paths.
 func (m *Map[T]) All() iter.Seq[T] {
 	return func(yield func(T) bool) {

@@ -30,6 +30,11 @@ func Parent(path string) string {
 	return path[:max(0, strings.LastIndexByte(path, '/'))]
 }
 
+// Last is the last step of a path.
+func Last(path string) string {
+	return path[strings.LastIndexByte(path, '/')+1:]
+}
+
 // IsBelow tells whether a path is below another one.
 func IsBelow(path, top string) bool {
 	return strings.HasPrefix(path, top+"/")

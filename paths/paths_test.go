@@ -48,6 +48,14 @@ func TestParent(t *testing.T) {
 	}
 }
 
+func TestLast(t *testing.T) {
+	for path, want := range map[string]string{"a": "a", "a/b": "b", "a/b/c-d": "c-d", "a.b/c/d/e": "e", "": ""} {
+		if got := Last(path); got != want {
+			t.Errorf("Last(%q) = %q, want %q", path, got, want)
+		}
+	}
+}
+
 func TestIsBelow(t *testing.T) {
 	for _, pair := range [][2]string{{"a/b", "a"}, {"a/b/c/d", "a"}, {"a/b/c/d", "a/b"}, {"a-b/c", "a-b"}} {
 		if !IsBelow(pair[0], pair[1]) {
@@ -113,6 +121,24 @@ func TestMapDelete(t *testing.T) {
 	m.Put("b", 7)
 	if got := slices.Collect(m.All()); !slices.Equal(got, []int{2, 7, 3, 0}) {
 		t.Errorf("All = %v", got)
+	}
+}
+
+func TestMapClone(t *testing.T) {
+	var m Map[int]
+	for i, path := range []string{"a", "b", "c"} {
+		m.Put(path, i)
+	}
+	c := m.Clone()
+	m.Put("a", 7)
+	m.Put("z", 8)
+	c.Delete("b")
+	c.Put("d", 9)
+	if got := slices.Collect(m.All()); !slices.Equal(got, []int{7, 1, 2, 8}) {
+		t.Errorf("All = %v", got)
+	}
+	if got := slices.Collect(c.All()); !slices.Equal(got, []int{0, 2, 9}) {
+		t.Errorf("All of the clone = %v", got)
 	}
 }
 

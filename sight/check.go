@@ -1,9 +1,25 @@
-package layer
+// Package sight: trees and layers by path, and what is seen of the one through the other: see DOC.md, 'Words'.
+package sight
 
 import (
+	"strings"
+
 	"gauze/api"
 	"gauze/paths"
 )
+
+// Tree is the items of a tree by path; false: the list is no tree.
+func Tree(list []api.Item) (*paths.Map[api.Item], bool) { return byPath(list, fitsTree) }
+
+// Layer is the items of a layer by path; false: the list is no layer.
+func Layer(list []api.Item) (*paths.Map[api.Item], bool) { return byPath(list, fitsLayer) }
+
+// Own is an item with texts of its own: what is handed in is not to be kept.
+func Own(item api.Item) api.Item {
+	item.Path = strings.Clone(item.Path)
+	item.Data = strings.Clone(item.Data)
+	return item
+}
 
 // byPath is a list's items by path; false: they are too many, one of them does not fit, two have one path, or one has no directory to stand in.
 func byPath(list []api.Item, fits func(api.Item) bool) (*paths.Map[api.Item], bool) {
@@ -18,6 +34,7 @@ func byPath(list []api.Item, fits func(api.Item) bool) (*paths.Map[api.Item], bo
 		if _, there := items.Get(item.Path); there {
 			return nil, false
 		}
+		item = Own(item)
 		items.Put(item.Path, item)
 	}
 	// A parent may come behind its children in the list, so all must stand first.

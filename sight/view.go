@@ -1,18 +1,18 @@
-package layer
+package sight
 
 import (
 	"gauze/api"
 	"gauze/paths"
 )
 
-// view is a tree with a layer over it. Both are only read, so that several may look at once.
-type view struct {
-	tree *paths.Map[api.Item]
-	over *paths.Map[api.Item]
+// View is a tree with a layer over it. Both are only read here, so that several may look at once.
+type View struct {
+	Tree *paths.Map[api.Item]
+	Over *paths.Map[api.Item]
 }
 
-// seen gathers all that is seen. No path comes from both sides, so it does not show which of them select takes first.
-func (v view) seen() *paths.Map[api.Item] {
+// Seen gathers all that is seen, none of it Opaque. No path comes from both sides, so it does not show which of them select takes first.
+func (v View) Seen() *paths.Map[api.Item] {
 	above := make(chan api.Item)
 	below := make(chan api.Item)
 	go v.sendLayer(above)
@@ -37,10 +37,16 @@ func (v view) seen() *paths.Map[api.Item] {
 	return seen
 }
 
+// ShinesThrough tells whether the tree shines through at a path.
+func (v View) ShinesThrough(path string) bool {
+	_, there := v.Tree.Get(path)
+	return there && v.isClear(paths.Parent(path))
+}
+
 // sendLayer sends what is seen of the layer's own.
-func (v view) sendLayer(to chan<- api.Item) {
+func (v View) sendLayer(to chan<- api.Item) {
 	defer close(to)
-	for item := range v.over.All() {
+	for item := range v.Over.All() {
 		if item.Kind == api.White {
 			continue
 		}
@@ -50,21 +56,21 @@ func (v view) sendLayer(to chan<- api.Item) {
 }
 
 // sendTree sends what is seen of the tree: what shines through where the layer has nothing.
-func (v view) sendTree(to chan<- api.Item) {
+func (v View) sendTree(to chan<- api.Item) {
 	defer close(to)
-	for item := range v.tree.All() {
-		if _, covered := v.over.Get(item.Path); !covered && v.isClear(paths.Parent(item.Path)) {
+	for item := range v.Tree.All() {
+		if _, covered := v.Over.Get(item.Path); !covered && v.ShinesThrough(item.Path) {
 			to <- item
 		}
 	}
 }
 
 // isClear tells whether a directory of the tree is clear. (The parent of what the tree has is always a Dir of the tree, or the root, so only the layer can be in the way.)
-func (v view) isClear(dir string) bool {
+func (v View) isClear(dir string) bool {
 	if dir == paths.Root {
 		return true
 	}
-	over, covered := v.over.Get(dir)
+	over, covered := v.Over.Get(dir)
 	if covered && (over.Kind != api.Dir || over.Opaque) {
 		return false
 	}
